@@ -1,0 +1,67 @@
+"""What holds for every file of the package: point 3, and where the interface stands."""
+
+import ast
+import pathlib
+import unittest
+
+PACKAGE = pathlib.Path(__file__).resolve().parent.parent / "vancourier"
+FORBIDDEN = ("open", "input", "print", "exec", "eval", "compile", "globals", "vars", "__import__", "id", "hash")
+
+# Each name of the interface that has landed, and for a class the methods that its own body defines.
+INTERFACE = {
+    "errors": {"CourierError": (), "BadModel": (), "BadMark": (), "BadAct": ()},
+    "forms": {"check_model": None, "check_placing": None, "first_state": None},
+    "meaning": {"run_handler": None},
+}
+
+
+def trees():
+    return [(path, ast.parse(path.read_text("utf-8"))) for path in sorted(PACKAGE.glob("*.py"))]
+
+
+class PackageTest(unittest.TestCase):
+    def test_the_folder_holds_plain_files_only(self):
+        for path in PACKAGE.iterdir():
+            if path.name != "__pycache__":
+                self.assertTrue(path.is_file() and path.suffix == ".py", path)
+
+    def test_no_imports_but_the_programs_own_modules(self):
+        modules = ["vancourier." + path.stem for path, tree in trees()]
+        for path, tree in trees():
+            for node in ast.walk(tree):
+                self.assertNotIsInstance(node, ast.Import, path)
+                if isinstance(node, ast.ImportFrom):
+                    self.assertEqual(node.level, 0, path)
+                    self.assertIn(node.module, modules, path)
+
+    def test_no_builtin_that_reaches_outside(self):
+        for path, tree in trees():
+            names = [node.id for node in ast.walk(tree) if isinstance(node, ast.Name)]
+            for name in FORBIDDEN:
+                self.assertNotIn(name, names, path)
+
+    def test_the_interface_is_defined_in_its_files(self):
+        found = {path.stem: tree for path, tree in trees()}
+        for module, names in INTERFACE.items():
+            nodes = {node.name: node for node in found[module].body if hasattr(node, "name")}
+            for name, methods in names.items():
+                with self.subTest(module=module, name=name):
+                    self.assertIn(name, nodes)
+                    self.assertIsInstance(nodes[name], ast.FunctionDef if methods is None else ast.ClassDef)
+                    own = [node.name for node in nodes[name].body if hasattr(node, "name")]
+                    for method in methods or ():
+                        self.assertIn(method, own)
+
+    def test_sizes_and_characters(self):
+        for path, tree in trees():
+            lines = path.read_text("utf-8").split("\n")
+            self.assertLessEqual(len(lines), 399, path)
+            for line in lines:
+                self.assertTrue(len(line) <= 120 and all(" " <= sign <= "~" for sign in line), (path, line))
+            for node in ast.walk(tree):
+                if isinstance(node, ast.FunctionDef):
+                    self.assertLessEqual(node.end_lineno - node.lineno + 1, 40, (path, node.name))
+
+
+if __name__ == "__main__":
+    unittest.main()

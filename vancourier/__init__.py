@@ -1,0 +1,1 @@
+"""Vancourier: a simulator that runs ahead and takes back."""
