@@ -1,7 +1,14 @@
-"""Models for the tests, and ways to change one place of a model."""
+"""Models for the tests, ways to change one place of a model, callers of sites, and a ring of processors."""
+
+from vancourier.forms import check_model
+from vancourier.plain import Plain, run_plain
+from vancourier.processor import Processor
+from vancourier.sites import Site
 
 SKIP = ("skip",)
 ONE = ("int", 1)
+N = ("field", "n")
+ADD = ("set", "n", ("add", N, ("arg",)))
 
 HANDLER = (
     ("set", "count", ("add", ("field", "count"), ("arg",))),
@@ -68,3 +75,201 @@ def nested_if(depth, program):
     for turn in range(depth):
         program = (("if", ONE, program, (SKIP,)) if turn % 2 else ("if", ONE, (SKIP,), program),)
     return program
+
+
+def random_model(chance):
+    """Returns a model of 2 to 6 objects that exchange many events, of which at most 200 are processed."""
+    while True:
+        many = chance.randint(2, 6)
+        handlers = (("go", random_program(chance)), ("tell", random_program(chance)))
+        start = tuple(
+            (chance.randint(0, 4), chance.randrange(many), chance.choice(("go", "tell")), chance.randint(0, 9))
+            for _ in range(chance.randint(2, 5))
+        )
+        model = ((("box", (("n", 0, 9), ("m", -5, 5)), handlers),), ("box",) * many, start, chance.randint(10, 40))
+        if few_steps(check_model(model), 200):
+            return model
+
+
+def random_program(chance):
+    """Returns a program that sets both fields and sends one event on one way through it, and two on the other."""
+    n, m, arg, now = ("field", "n"), ("field", "m"), ("arg",), ("now",)
+    parts = (n, m, arg, now, ("self",), ONE)
+    words = ("go", "tell", "nobody")
+
+    def pair():
+        return (chance.choice(("add", "sub", "max", "mul")), chance.choice(parts), chance.choice(parts))
+
+    def send():
+        delay = ("add", ONE, ("mod", pair(), chance.randint(1, 6)))
+        return ("send", ("add", chance.choice(parts), chance.choice(parts)), delay, chance.choice(words), pair())
+
+    change = ("set", chance.choice("nm"), ("sub", ("mod", pair(), chance.randint(2, 9)), ("int", chance.randint(0, 4))))
+    more = (("set", "m", arg), send()) if chance.random() < 0.5 else (SKIP,)
+    return (change, send(), ("if", ("mod", pair(), chance.randint(2, 4)), (SKIP,), more))
+
+
+def few_steps(model, most):
+    """Tells whether the plain simulation of a model has at most so many steps, and more than 10."""
+    plain = Plain(model)
+    for _ in range(most + 1):
+        if plain.step() is None:
+            return len(plain.history()) > 10
+    return False
+
+
+class Ring:
+    """Processors with a net and a token, as points 150, 151, 170, 171 and 175 describe them."""
+
+    def __init__(self, model, placing, window, interval, lazy):
+        self.end = model[3]
+        self.placing = placing
+        self.window = window
+        self.interval = interval
+        self.processors = [
+            Processor(model, placing, me, window, interval, lazy) for me in range(max(placing) + 1)
+        ]
+        self.net = []
+        self.made = []
+        self.antis = 0
+        self.token = (1, 0, self.end + 1, 0)
+        self.place = 0
+        self.history = run_plain(model).history()
+        self.seen = [0 for processor in self.processors]
+
+    def send(self, letters):
+        self.net += letters
+        self.made += [(letter[0], letter[2]) for letter in letters]
+        self.antis += len([letter for letter in letters if letter[4] == "anti"])
+
+    def step(self, me):
+        letters = self.processors[me].step()
+        self.send(letters or [])
+        return letters is not None
+
+    def deliver(self, index):
+        letter = self.net.pop(index)
+        self.send(self.processors[letter[1]].receive(letter))
+
+    def hop(self):
+        self.token = self.processors[self.place].visit(self.token)
+        self.place += 1
+        if self.place == len(self.processors):
+            turn, balance, low, horizon = self.token
+            self.token = (turn, 0, self.end + 1, horizon) if balance else (turn + 1, 0, self.end + 1, low)
+            self.place = 0
+
+    def act(self, chance, weights):
+        """Performs a random act, if it is possible."""
+        word = chance.choices(("step", "hop", "deliver", "double", "move"), weights)[0]
+        if word == "step":
+            self.step(chance.randrange(len(self.processors)))
+        elif word == "hop":
+            self.hop()
+        elif self.net:
+            index = chance.randrange(len(self.net))
+            if word == "deliver":
+                self.deliver(index)
+            else:
+                self.net.append(self.net[index] if word == "double" else self.net.pop(index))
+
+    def calm(self):
+        """Performs calm cycles, as many as are enough for the run to be done (point 177)."""
+        for _ in range(2 + (self.end + 1) // self.window):
+            moved = True
+            while moved:
+                moved = bool(self.net)
+                while self.net:
+                    self.deliver(0)
+                for me in range(len(self.processors)):
+                    moved = self.step(me) or moved
+            for _ in range(4 * len(self.processors)):
+                self.hop()
+
+    def faults(self):
+        """Returns what of the promises 2, 3 and 4 of point 2, and of point 141, does not hold at this moment."""
+        found = []
+        if len(set(self.made)) < len(self.made):
+            found.append("two letters have the same source and number")
+        for me, processor in enumerate(self.processors):
+            horizon = processor.horizon()
+            if horizon < self.seen[me]:
+                found.append("a horizon decreases")
+            self.seen[me] = horizon
+            before = [event for event in self.history if event[0] < horizon and self.placing[event[1]] == me]
+            if processor.committed() != before:
+                found.append("other events are committed")
+            if processor.kept() > self.most_kept(processor):
+                found.append("too much is kept")
+            if [event for event in processor.sent.values() if event[0] < horizon]:
+                found.append("an event is kept that cannot be cancelled any more")
+        return found
+
+    def most_kept(self, processor):
+        """Returns how many records point 158 allows a processor at this moment."""
+        horizon = processor.horizon()
+        most = 0
+        for site in processor.sites.values():
+            times = [event[0] for event in site.processed()]
+            fresh = [time for time in times if horizon <= time < horizon + self.window]
+            most += len(fresh) + min(self.interval, len([time for time in times if time < horizon]))
+        return most
+
+
+# `go` adds its argument and sends it on, and a second event while the sum is odd; `back` sends the sum;
+# `quiet` changes the state and sends nothing; `twice` sends two events that differ in their counts only.
+GO = (ADD, ("send", ONE, ("int", 3), "go", ("arg",)),
+      ("if", ("mod", N, 2), (("send", ("int", 0), ("int", 2), "back", N),), (SKIP,)))
+BACK = (("send", ONE, ONE, "go", N),)
+QUIET = (("set", "n", ("mul", N, ("arg",))),)
+TWICE = (("send", ONE, ONE, "same", ("int", 7)), ("send", ONE, ONE, "same", ("int", 7)))
+SITE_KIND = ("box", (("n", -50, 50),), (("go", GO), ("back", BACK), ("quiet", QUIET), ("twice", TWICE)))
+SITE_MODEL = check_model(((SITE_KIND,), ("box", "box"), (), 100))
+
+
+def event(time, name="go", arg=1, sender=-1, count=0):
+    return (time, 0, sender, count, name, arg)
+
+
+def eager(interval=1):
+    return Site(SITE_MODEL, 0, interval, False)
+
+
+def lazy(interval=1):
+    return Site(SITE_MODEL, 0, interval, True)
+
+
+def view(site):
+    return (site.least(), site.state(), site.count(), site.processed(), site.waiting(), site.kept())
+
+
+class Marks:
+    """A site's caller, which gives each sent event the mark (5, number), counted from 0."""
+
+    def __init__(self, site):
+        self.site = site
+        self.made = 0
+
+    def process(self):
+        """Processes an instance and returns the sent events."""
+        events = self.site.process()
+        self.site.note([(5, self.made + index) for index in range(len(events))])
+        self.made += len(events)
+        return events
+
+    def process_all(self):
+        """Processes all waiting instances and returns the list of what each one sent."""
+        return [self.process() for _ in self.site.waiting()]
+
+    def insert_all(self, *events):
+        """Inserts events with the marks (9, 0), (9, 1) and so on."""
+        for number, each in enumerate(events):
+            self.site.insert((9, number), each)
+
+
+def filled(site, *events):
+    """Returns the caller of a site that has processed the events, whose marks are (9, 0), (9, 1) and so on."""
+    marks = Marks(site)
+    marks.insert_all(*events)
+    marks.process_all()
+    return marks

@@ -7,16 +7,39 @@ import unittest
 PACKAGE = pathlib.Path(__file__).resolve().parent.parent / "vancourier"
 FORBIDDEN = ("open", "input", "print", "exec", "eval", "compile", "globals", "vars", "__import__", "id", "hash")
 
-# Each name of the interface that has landed, and for a class the methods that its own body defines.
+# Each name of the interface that has landed with its arguments, for a class those of the methods of its own body.
 INTERFACE = {
-    "errors": {"CourierError": (), "BadModel": (), "BadMark": (), "BadAct": ()},
-    "forms": {"check_model": None, "check_placing": None, "first_state": None},
-    "meaning": {"run_handler": None},
+    "errors": {"CourierError": {}, "BadModel": {}, "BadMark": {}, "BadAct": {}},
+    "forms": {"check_model": "value", "check_placing": "model placing", "first_state": "model number"},
+    "meaning": {"run_handler": "model number state time name arg"},
+    "plain": {
+        "start_events": "model",
+        "Plain": {"__init__": "model", "step": "", "history": "", "states": "", "waiting": ""},
+        "run_plain": "model",
+    },
+    "sites": {
+        "Site": {
+            "__init__": "model number interval lazy", "insert": "mark event", "remove": "mark", "process": "",
+            "note": "marks", "overdue": "", "least": "", "state": "", "count": "", "processed": "", "waiting": "",
+            "forget": "time", "kept": "",
+        },
+    },
+    "processor": {
+        "Processor": {
+            "__init__": "model placing me window interval lazy", "receive": "letter", "step": "", "visit": "token",
+            "low": "", "committed": "", "kept": "", "states": "", "horizon": "",
+        },
+    },
 }
 
 
 def trees():
     return [(path, ast.parse(path.read_text("utf-8"))) for path in sorted(PACKAGE.glob("*.py"))]
+
+
+def arguments(node):
+    """Returns the names of the arguments of a function."""
+    return [arg.arg for arg in node.args.args]
 
 
 class PackageTest(unittest.TestCase):
@@ -44,13 +67,15 @@ class PackageTest(unittest.TestCase):
         found = {path.stem: tree for path, tree in trees()}
         for module, names in INTERFACE.items():
             nodes = {node.name: node for node in found[module].body if hasattr(node, "name")}
-            for name, methods in names.items():
+            for name, wanted in names.items():
                 with self.subTest(module=module, name=name):
-                    self.assertIn(name, nodes)
-                    self.assertIsInstance(nodes[name], ast.FunctionDef if methods is None else ast.ClassDef)
-                    own = [node.name for node in nodes[name].body if hasattr(node, "name")]
-                    for method in methods or ():
-                        self.assertIn(method, own)
+                    if isinstance(wanted, str):
+                        self.assertEqual(arguments(nodes[name]), wanted.split())
+                    else:
+                        self.assertIsInstance(nodes[name], ast.ClassDef)
+                        own = {node.name: node for node in nodes[name].body if hasattr(node, "name")}
+                        for method, told in wanted.items():
+                            self.assertEqual(arguments(own[method]), ["self"] + told.split())
 
     def test_sizes_and_characters(self):
         for path, tree in trees():
