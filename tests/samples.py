@@ -1,8 +1,7 @@
-"""Models for the tests, ways to change one place of a model, callers of sites, and a ring of processors."""
+"""Models for the tests, ways to change one place of a model, and callers of sites."""
 
 from vancourier.forms import check_model
-from vancourier.plain import Plain, run_plain
-from vancourier.processor import Processor
+from vancourier.plain import Plain
 from vancourier.sites import Site
 
 SKIP = ("skip",)
@@ -116,104 +115,6 @@ def few_steps(model, most):
         if plain.step() is None:
             return len(plain.history()) > 10
     return False
-
-
-class Ring:
-    """Processors with a net and a token, as points 150, 151, 170, 171 and 175 describe them."""
-
-    def __init__(self, model, placing, window, interval, lazy):
-        self.end = model[3]
-        self.placing = placing
-        self.window = window
-        self.interval = interval
-        self.processors = [
-            Processor(model, placing, me, window, interval, lazy) for me in range(max(placing) + 1)
-        ]
-        self.net = []
-        self.made = []
-        self.antis = 0
-        self.token = (1, 0, self.end + 1, 0)
-        self.place = 0
-        self.history = run_plain(model).history()
-        self.seen = [0 for processor in self.processors]
-
-    def send(self, letters):
-        self.net += letters
-        self.made += [(letter[0], letter[2]) for letter in letters]
-        self.antis += len([letter for letter in letters if letter[4] == "anti"])
-
-    def step(self, me):
-        letters = self.processors[me].step()
-        self.send(letters or [])
-        return letters is not None
-
-    def deliver(self, index):
-        letter = self.net.pop(index)
-        self.send(self.processors[letter[1]].receive(letter))
-
-    def hop(self):
-        self.token = self.processors[self.place].visit(self.token)
-        self.place += 1
-        if self.place == len(self.processors):
-            turn, balance, low, horizon = self.token
-            self.token = (turn, 0, self.end + 1, horizon) if balance else (turn + 1, 0, self.end + 1, low)
-            self.place = 0
-
-    def act(self, chance, weights):
-        """Performs a random act, if it is possible."""
-        word = chance.choices(("step", "hop", "deliver", "double", "move"), weights)[0]
-        if word == "step":
-            self.step(chance.randrange(len(self.processors)))
-        elif word == "hop":
-            self.hop()
-        elif self.net:
-            index = chance.randrange(len(self.net))
-            if word == "deliver":
-                self.deliver(index)
-            else:
-                self.net.append(self.net[index] if word == "double" else self.net.pop(index))
-
-    def calm(self):
-        """Performs calm cycles, as many as are enough for the run to be done (point 177)."""
-        for _ in range(2 + (self.end + 1) // self.window):
-            moved = True
-            while moved:
-                moved = bool(self.net)
-                while self.net:
-                    self.deliver(0)
-                for me in range(len(self.processors)):
-                    moved = self.step(me) or moved
-            for _ in range(4 * len(self.processors)):
-                self.hop()
-
-    def faults(self):
-        """Returns what of the promises 2, 3 and 4 of point 2, and of point 141, does not hold at this moment."""
-        found = []
-        if len(set(self.made)) < len(self.made):
-            found.append("two letters have the same source and number")
-        for me, processor in enumerate(self.processors):
-            horizon = processor.horizon()
-            if horizon < self.seen[me]:
-                found.append("a horizon decreases")
-            self.seen[me] = horizon
-            before = [event for event in self.history if event[0] < horizon and self.placing[event[1]] == me]
-            if processor.committed() != before:
-                found.append("other events are committed")
-            if processor.kept() > self.most_kept(processor):
-                found.append("too much is kept")
-            if [event for event in processor.sent.values() if event[0] < horizon]:
-                found.append("an event is kept that cannot be cancelled any more")
-        return found
-
-    def most_kept(self, processor):
-        """Returns how many records point 158 allows a processor at this moment."""
-        horizon = processor.horizon()
-        most = 0
-        for site in processor.sites.values():
-            times = [event[0] for event in site.processed()]
-            fresh = [time for time in times if horizon <= time < horizon + self.window]
-            most += len(fresh) + min(self.interval, len([time for time in times if time < horizon]))
-        return most
 
 
 # `go` adds its argument and sends it on, and a second event while the sum is odd; `back` sends the sum;

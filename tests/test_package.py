@@ -7,7 +7,7 @@ import unittest
 PACKAGE = pathlib.Path(__file__).resolve().parent.parent / "vancourier"
 FORBIDDEN = ("open", "input", "print", "exec", "eval", "compile", "globals", "vars", "__import__", "id", "hash")
 
-# Each name of the interface that has landed with its arguments, for a class those of the methods of its own body.
+# Each name of the interface with its arguments, for a class those of the methods of its own body.
 INTERFACE = {
     "errors": {"CourierError": {}, "BadModel": {}, "BadMark": {}, "BadAct": {}},
     "forms": {"check_model": "value", "check_placing": "model placing", "first_state": "model number"},
@@ -30,6 +30,16 @@ INTERFACE = {
             "low": "", "committed": "", "kept": "", "states": "", "horizon": "",
         },
     },
+    "ring": {"first_token": "end", "next_token": "token end"},
+    "world": {
+        "World": {
+            "__init__": "model placing window interval lazy", "act": "value", "calm": "", "net": "", "token": "",
+            "horizons": "", "committed": "", "states": "", "kept": "", "processors": "", "done": "",
+        },
+        "run_calm": "model placing window interval lazy",
+    },
+    "notation": {"model_text": "model", "parse_model": "text"},
+    "console": {"run_console": "text"},
 }
 
 

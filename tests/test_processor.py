@@ -536,6 +536,16 @@ class HorizonTest(unittest.TestCase):
                 self.assertEqual(found, kept)
                 self.assertEqual(one.states(), {0: (6,), 1: (6,)})
 
+    def test_a_horizon_that_is_not_greater_throws_nothing_away(self):
+        one = processor("add", ((1, 0, "add", 1), (2, 0, "add", 1), (5, 0, "add", 1)), (0,), window=3)
+        steps(one)
+        one.visit((1, 0, 51, 3))
+        steps(one)
+        # The horizon 3 would now throw away what was kept for the event at 2, as that at 5 has a saved state.
+        for horizon, kept in ((3, 2), (2, 2), (4, 1)):
+            one.visit((2, 0, 51, horizon))
+            self.assertEqual(one.kept(), kept)
+
     def test_kept_without_records(self):
         one = processor("add", ((4, 0, "add", 1),), (0, 1))
         self.assertEqual(one.kept(), 0)
