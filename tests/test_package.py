@@ -1,4 +1,4 @@
-"""What holds for every file of the package: point 3, and where the interface stands."""
+"""What holds for every file of the package: point 3, where the interface stands, and rule L6 for captured names."""
 
 import ast
 import pathlib
@@ -52,6 +52,27 @@ def arguments(node):
     return [arg.arg for arg in node.args.args]
 
 
+def captured_names(function):
+    """Returns the names that the cases of a function capture."""
+    patterns = [node for node in ast.walk(function) if isinstance(node, (ast.MatchAs, ast.MatchStar))]
+    return {pattern.name for pattern in patterns} - {None}
+
+
+def other_names(function):
+    """Returns the names that a function has otherwise: parameters, and what is assigned, looped over or nonlocal."""
+    names = set()
+    for node in ast.walk(function):
+        if isinstance(node, ast.arg):
+            names.add(node.arg)
+        elif isinstance(node, ast.Name) and not isinstance(node.ctx, ast.Load):
+            names.add(node.id)
+        elif isinstance(node, (ast.Global, ast.Nonlocal)):
+            names.update(node.names)
+        elif isinstance(node, ast.ExceptHandler) and node.name is not None:
+            names.add(node.name)
+    return names
+
+
 class PackageTest(unittest.TestCase):
     def test_the_folder_holds_plain_files_only(self):
         for path in PACKAGE.iterdir():
@@ -96,6 +117,27 @@ class PackageTest(unittest.TestCase):
             for node in ast.walk(tree):
                 if isinstance(node, ast.FunctionDef):
                     self.assertLessEqual(node.end_lineno - node.lineno + 1, 40, (path, node.name))
+
+    def test_captured_names_have_no_other_use(self):
+        # Rule L6: a captured name is no parameter and no loop variable, and is not assigned.
+        for path, tree in trees():
+            for node in ast.walk(tree):
+                if isinstance(node, ast.FunctionDef):
+                    shared = captured_names(node) & other_names(node)
+                    self.assertEqual(shared, set(), (path, node.name, node.lineno))
+
+    def test_the_check_of_captured_names_finds_each_other_use(self):
+        rows = {
+            "def f(e):\n match e:\n  case [a, *rest]: return [b for b in rest]": set(),
+            "def f(e):\n match e:\n  case [a, *rest]: return [a for a in rest]": {"a"},
+            "def f(e):\n match e:\n  case [a, *rest]:\n   for rest in e: pass": {"rest"},
+            "def f(e):\n match e:\n  case [a, _] as e: return a": {"e"},
+            "def f(e):\n match e:\n  case [a, b]:\n   a = b": {"a"},
+        }
+        for text, wanted in rows.items():
+            with self.subTest(text=text):
+                tree = ast.parse(text)
+                self.assertEqual(captured_names(tree) & other_names(tree), wanted)
 
 
 if __name__ == "__main__":

@@ -70,7 +70,7 @@ def expression_text(e):
         case ("div" | "mod", a, n):
             return f"{e[0]} {expression_text(a)} {n}"
         case (word, *operands):
-            return " ".join([word] + [expression_text(a) for a in operands])
+            return " ".join([word] + [expression_text(operand) for operand in operands])
 
 
 class Reader:
